@@ -1,0 +1,1 @@
+"""Leaperwalk: leaping pieces over floors with holes."""

@@ -1,0 +1,72 @@
+"""Near cells, the parts of a floor, and the hues of its cells."""
+
+from leaperwalk.floors import checked, checked_cell, checked_leap
+
+
+def are_near(leap, one, other):
+    down = abs(one[0] - other[0])
+    across = abs(one[1] - other[1])
+    return (min(down, across), max(down, across)) == leap
+
+
+def cells_near(floor, leap, cell):
+    return [other for other in floor if are_near(leap, cell, other)]
+
+
+def leads_to(floor, leap, goal):
+    # For each cell from which a way leads to the goal: the next one on a way with the fewest leaps.
+    # Sought from the goal backwards, so that a way is then read off from its first cell on.
+    leads = {goal: None}
+    edge = [goal]
+    while len(edge) > 0:
+        further = []
+        for cell in edge:
+            for other in cells_near(floor, leap, cell):
+                if other not in leads:
+                    leads[other] = cell
+                    further.append(other)
+        edge = further
+    return leads
+
+
+def greatest_divisor(leap):
+    return max([number for number in range(1, leap[1] + 1) if leap[0] % number == 0 and leap[1] % number == 0])
+
+
+def hue_of(leap, cell):
+    divisor = greatest_divisor(leap)
+    row = cell[0] // divisor
+    column = cell[1] // divisor
+    if (leap[0] // divisor + leap[1] // divisor) % 2 == 1:
+        return (row + column) % 2
+    return row % 2
+
+
+def cells_of_hue(floor, leap, hue):
+    return [cell for cell in floor if hue_of(leap, cell) == hue]
+
+
+def near_cells(floor, leap, cell):
+    checked(floor)
+    checked_leap(leap)
+    checked_cell(floor, cell)
+    return cells_near(floor, leap, cell)
+
+
+def parts_of(floor, leap):
+    checked(floor)
+    checked_leap(leap)
+    parts = []
+    placed = {}
+    for cell in floor:
+        if cell not in placed:
+            leads = leads_to(floor, leap, cell)
+            placed.update(leads)
+            parts.append(sorted(leads.keys()))
+    return parts
+
+
+def hues_of(floor, leap):
+    checked(floor)
+    checked_leap(leap)
+    return [cells_of_hue(floor, leap, 0), cells_of_hue(floor, leap, 1)]
