@@ -3,10 +3,13 @@
 from leaperwalk.floors import checked, checked_cell, checked_leap
 
 
+def folded(down, right):
+    # A leap goes alike in all its turned and mirrored ways, so one of them stands for all.
+    return (min(abs(down), abs(right)), max(abs(down), abs(right)))
+
+
 def are_near(leap, one, other):
-    down = abs(one[0] - other[0])
-    across = abs(one[1] - other[1])
-    return (min(down, across), max(down, across)) == leap
+    return folded(other[0] - one[0], other[1] - one[1]) == leap
 
 
 def cells_near(floor, leap, cell):
@@ -29,15 +32,31 @@ def leads_to(floor, leap, goal):
     return leads
 
 
+def parts_within(cells, leap):
+    parts = []
+    placed = {}
+    for cell in cells:
+        if cell not in placed:
+            leads = leads_to(cells, leap, cell)
+            placed.update(leads)
+            parts.append(sorted(leads.keys()))
+    return parts
+
+
 def greatest_divisor(leap):
     return max([number for number in range(1, leap[1] + 1) if leap[0] % number == 0 and leap[1] % number == 0])
+
+
+def has_odd_sum(leap):
+    divisor = greatest_divisor(leap)
+    return (leap[0] // divisor + leap[1] // divisor) % 2 == 1
 
 
 def hue_of(leap, cell):
     divisor = greatest_divisor(leap)
     row = cell[0] // divisor
     column = cell[1] // divisor
-    if (leap[0] // divisor + leap[1] // divisor) % 2 == 1:
+    if has_odd_sum(leap):
         return (row + column) % 2
     return row % 2
 
@@ -56,14 +75,7 @@ def near_cells(floor, leap, cell):
 def parts_of(floor, leap):
     checked(floor)
     checked_leap(leap)
-    parts = []
-    placed = {}
-    for cell in floor:
-        if cell not in placed:
-            leads = leads_to(floor, leap, cell)
-            placed.update(leads)
-            parts.append(sorted(leads.keys()))
-    return parts
+    return parts_within(floor, leap)
 
 
 def hues_of(floor, leap):

@@ -7,11 +7,15 @@ def whole(rows, columns, top=0, left=0):
     return tuple((top + row, left + column) for row in range(rows) for column in range(columns))
 
 
+def stirred(seed):
+    return (seed * 1103515245 + 12345) % 2**31
+
+
 def scattered(count, seed):
     cells = [(row, column) for row in range(8) for column in range(8)]
     chosen = []
     for step in range(count):
-        seed = (seed * 1103515245 + 12345) % 2**31
+        seed = stirred(seed)
         chosen.append(cells.pop((seed >> 8) % len(cells)))
     return tuple(sorted(chosen))
 
@@ -74,6 +78,13 @@ OTHER_KINDS = [
     object(), int, len, Stranger(), Yes(), float("nan"), float("inf"), 10**30,
 ]
 
+NO_NUMBERS = [thing for thing in OTHER_KINDS if type(thing) is not int] + [
+    13, -13, 14, -14, 24, -24, 100, 10**30, -10**30, 0.0, 1.0, -1.0, 12.5, float("-inf"),
+    "0", "1", "-1", b"\0", (), (0,), (1,), (0, 0), [0], [1], {0: 0},
+]
+
+NO_SPARES = NO_NUMBERS + [-1, 2, -2, 3, 8, 9, 10, 12, -12]
+
 NO_CELLS = OTHER_KINDS + [
     (), (0,), (0, 0, 0), [0, 0], {0: 0, 1: 0}, "00", b"\0\0", range(0, 2),
     (-1, 0), (0, -1), (8, 0), (0, 8), (10**30, 0), (0, -10**30),
@@ -127,3 +138,37 @@ def distances(floor, leap):
                     length = found[one, between] + found[between, other]
                     found[one, other] = min(length, found.get((one, other), length))
     return found
+
+
+def beside(chosen, leap):
+    """The cells of the widest floor that are not chosen: those near a chosen one, or all, where none is near."""
+    others = set(whole(8, 8)) - set(chosen)
+    near = {other for cell in chosen for other in landings(leap, cell)} & others
+    return sorted(near or others)
+
+
+def grown(leap, count, seed):
+    """A floor with many leaps in it: each cell is near one ahead of it, as long as there is such a cell."""
+    seed = stirred(seed)
+    chosen = [whole(8, 8)[(seed >> 8) % 64]]
+    while len(chosen) < count:
+        seed = stirred(seed)
+        free = beside(chosen, leap)
+        chosen.append(free[(seed >> 8) % len(free)])
+    return tuple(sorted(chosen))
+
+
+def dense(leap, count, start):
+    """A floor with as many leaps in it as come about cell by cell, close around its start."""
+    chosen = [start]
+
+    def worth(cell):
+        return len(landings(leap, cell) & set(chosen)), -((cell[0] - start[0]) ** 2 + (cell[1] - start[1]) ** 2)
+
+    while len(chosen) < count:
+        chosen.append(max(beside(chosen, leap), key=worth))
+    return tuple(sorted(chosen))
+
+
+def near_table(floor, leap):
+    return {cell: landings(leap, cell) & set(floor) for cell in floor}
